@@ -1,0 +1,141 @@
+"""The plainest of the rules to which the files of the package keep; the numbers are those of LANGUAGE.md."""
+
+import ast
+import re
+import unittest
+from pathlib import Path
+
+FOLDER = Path(__file__).resolve().parent.parent / "wovenplaces"
+FILES = sorted(FOLDER.rglob("*.py"))
+TREES = {path.stem: ast.parse(path.read_text()) for path in FILES}
+DUNDERS = """
+init eq repr str len enter exit call iter lt le gt ge ne add sub mul floordiv mod pow and or xor lshift rshift neg pos
+invert abs bool contains getitem setitem radd rsub rmul rfloordiv rmod rand ror rxor rlshift rrshift iadd isub imul
+ifloordiv imod ipow iand ior ixor ilshift irshift
+""".split()
+BUILTINS = """
+len range enumerate zip min max sum abs sorted reversed int str bool bytes list tuple dict set frozenset isinstance ord
+repr any all divmod iter next super property staticmethod classmethod Exception ValueError KeyError IndexError
+LookupError TypeError ZeroDivisionError ArithmeticError OverflowError RuntimeError NotImplementedError AttributeError
+StopIteration NotImplemented
+""".split()
+WORDS = """
+type typing typing_extensions enum Enum IntEnum StrEnum Flag IntFlag Generic Protocol ABC ABCMeta namedtuple NamedTuple
+TypedDict TYPE_CHECKING abstractmethod
+""".split()
+NOT_ALLOWED = (ast.Global, ast.AsyncFunctionDef, ast.AsyncFor, ast.AsyncWith, ast.Await, ast.TryStar, ast.Div,
+               ast.Import, ast.MatMult)
+TAKES_A_LIST = ("sum", "min", "max", "sorted", "any", "all")
+
+
+def found(kind, tree):
+    return [node for node in ast.walk(tree) if isinstance(node, kind)]
+
+
+def imports_of(name):
+    return [node for node in TREES[name].body if isinstance(node, ast.ImportFrom)]
+
+
+def defined_in(name):
+    kept = {node.name for node in TREES[name].body if isinstance(node, (ast.FunctionDef, ast.ClassDef))}
+    return kept | {node.targets[0].id for node in TREES[name].body if isinstance(node, ast.Assign)}
+
+
+class Language(unittest.TestCase):
+    def test_files(self):
+        for path in FOLDER.rglob("*"):
+            if "__pycache__" not in path.parts:
+                self.assertRegex(path.name, r"^[a-z0-9_]+\.py$", "L1, L14")
+
+    def test_lines_and_characters(self):
+        for path in FILES:
+            lines = path.read_text().split("\n")
+            self.assertLessEqual(len(lines), 400, f"L10 {path.name}")
+            for at, line in enumerate(lines, 1):
+                with self.subTest(f"{path.name} {at}"):
+                    self.assertRegex(line, "^[ -~]{0,120}$", "L10, L14")
+                    self.assertFalse(re.search(r"\b(" + "|".join(WORDS) + r")\b", line), "L17")
+                    self.assertFalse(re.search("dataclass|overload|contextmanager", line), "L17")
+
+    def test_module_level(self):
+        for name, tree in TREES.items():
+            for node in tree.body:
+                with self.subTest(f"{name} {node.lineno}"):
+                    told = isinstance(node, ast.Expr) and isinstance(node.value, ast.Constant)
+                    kept = isinstance(node, ast.Assign) and [type(one) for one in node.targets] == [ast.Name]
+                    self.assertTrue(told or kept or isinstance(
+                        node, (ast.ImportFrom, ast.FunctionDef, ast.ClassDef)), "L3")
+
+    def test_imports(self):
+        for name in TREES:
+            for node in imports_of(name):
+                with self.subTest(f"{name} {node.lineno}"):
+                    self.assertTrue(node.level == 0 and node.module.startswith("wovenplaces."), "L2")
+                    self.assertLessEqual({one.name for one in node.names}, defined_in(node.module[12:]), "L16")
+            self.assertEqual(len(imports_of(name)), len(found(ast.ImportFrom, TREES[name])), "L2")
+
+    def test_no_circles_of_imports(self):
+        left = {name: {node.module[12:] for node in imports_of(name)} for name in TREES}
+        while left:
+            done = [name for name, needed in left.items() if not needed & set(left)]
+            self.assertTrue(done, f"L16 {sorted(left)}")
+            left = {name: needed for name, needed in left.items() if name not in done}
+
+    def test_statements_and_values(self):
+        for name, tree in TREES.items():
+            for node in ast.walk(tree):
+                with self.subTest(f"{name} {getattr(node, 'lineno', 0)}"):
+                    self.assertNotIsInstance(node, NOT_ALLOWED, "L2, L6, L7")
+                    if isinstance(node, ast.Constant):
+                        self.assertNotIsInstance(node.value, (float, complex), "L7")
+                        self.assertNotIn("%", str(node.value), "L27")
+                    if isinstance(node, ast.ExceptHandler):
+                        self.assertIsNotNone(node.type, "L6")
+                    if isinstance(node, ast.Compare):
+                        same = isinstance(node.ops[0], (ast.Is, ast.IsNot))
+                        self.assertTrue(not same or isinstance(node.comparators[0], ast.Constant), "L20")
+
+    def test_functions(self):
+        for name, tree in TREES.items():
+            for node in found(ast.FunctionDef, tree):
+                with self.subTest(f"{name} {node.name}"):
+                    self.assertLessEqual(node.end_lineno - node.lineno + 1, 40, "L10")
+                    self.assertEqual(node.args.posonlyargs, [], "L4")
+                    for one in node.decorator_list:
+                        self.assertRegex(ast.unparse(one), r"^(property|staticmethod|classmethod|\w+\.setter)$", "L4")
+                    if node.name.startswith("_"):
+                        self.assertIn(node.name.strip("_"), DUNDERS, "L5")
+
+    def test_lists_where_the_rules_ask_for_them(self):
+        for name, tree in TREES.items():
+            for node in found(ast.Call, tree):
+                if isinstance(node.func, ast.Name) and node.func.id in TAKES_A_LIST:
+                    self.assertNotIsInstance(node.args[0], ast.GeneratorExp, f"L5, L7 {name} {node.lineno}")
+
+    def test_names(self):
+        for name, tree in TREES.items():
+            bound = {node.id for node in found(ast.Name, tree) if isinstance(node.ctx, ast.Store)}
+            bound |= {node.arg for node in found(ast.arg, tree)} | defined_in(name)
+            bound |= {node.name for node in found(ast.FunctionDef, tree)}
+            taken = {one.name for node in imports_of(name) for one in node.names}
+            used = {node.id for node in found(ast.Name, tree) if isinstance(node.ctx, ast.Load)}
+            self.assertLessEqual(used - bound - taken, set(BUILTINS), f"L8 {name}")
+            self.assertEqual(taken - used, set(), f"{name} imports what it does not use")
+            locals_of = bound - defined_in(name)
+            self.assertEqual(locals_of & (set(BUILTINS) | taken), set(), f"L8, L15 {name}")
+            for one in locals_of | {node.attr for node in found(ast.Attribute, tree)}:
+                self.assertRegex(one, "^([a-zA-Z][a-zA-Z0-9_]*|__[a-z]+__)$", f"L12 {name}")
+
+    def test_no_name_is_a_method_and_an_attribute(self):
+        methods, attributes = set(), set()
+        for tree in TREES.values():
+            for made in found(ast.ClassDef, tree):
+                methods |= {node.name for node in made.body if isinstance(node, ast.FunctionDef)}
+            attributes |= {node.attr for node in found(ast.Attribute, tree) if isinstance(node.ctx, ast.Store)}
+        setters = {node.value.id for tree in TREES.values() for node in found(ast.Attribute, tree)
+                   if node.attr == "setter" and isinstance(node.value, ast.Name)}
+        self.assertEqual(methods & attributes - setters, set(), "L18")
+
+
+if __name__ == "__main__":
+    unittest.main()

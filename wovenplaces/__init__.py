@@ -1,0 +1,1 @@
+"""Endless rows woven and parted by programs that call themselves."""
