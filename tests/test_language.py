@@ -41,6 +41,25 @@ def defined_in(name):
     return kept | {node.targets[0].id for node in TREES[name].body if isinstance(node, ast.Assign)}
 
 
+def is_called(node, *names):
+    return isinstance(node, ast.Call) and isinstance(node.func, ast.Name) and node.func.id in names
+
+
+def is_written(node, kind):
+    return isinstance(node, ast.Constant) and isinstance(node.value, kind)
+
+
+def is_shown(node):
+    """Whether this is a text, an f-string, str(..), repr(..) or the join of a written text."""
+    joined = isinstance(node, ast.Call) and isinstance(node.func, ast.Attribute) and node.func.attr == "join"
+    return (is_written(node, str) or isinstance(node, ast.JoinedStr) or is_called(node, "str", "repr")
+            or joined and is_written(node.func.value, str))
+
+
+def is_counted(node):
+    return is_written(node, int) or is_called(node, "len")
+
+
 class Language(unittest.TestCase):
     def test_files(self):
         for path in FOLDER.rglob("*"):
@@ -125,6 +144,13 @@ class Language(unittest.TestCase):
             self.assertEqual(locals_of & (set(BUILTINS) | taken), set(), f"L8, L15 {name}")
             for one in locals_of | {node.attr for node in found(ast.Attribute, tree)}:
                 self.assertRegex(one, "^([a-zA-Z][a-zA-Z0-9_]*|__[a-z]+__)$", f"L12 {name}")
+
+    def test_what_the_methods_with_two_underscores_return(self):
+        forms = {"__str__": is_shown, "__repr__": is_shown, "__len__": is_counted}
+        for name, tree in TREES.items():
+            for node in found(ast.FunctionDef, tree):
+                for returned in found(ast.Return, node) if node.name in forms else []:
+                    self.assertTrue(forms[node.name](returned.value), f"L28 {name} {returned.lineno}")
 
     def test_no_name_is_a_method_and_an_attribute(self):
         methods, attributes = set(), set()

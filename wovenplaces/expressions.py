@@ -35,7 +35,7 @@ class Expression:
         return self.facts.size
 
     def __str__(self):
-        return self.facts.text
+        return str(self.facts.text)
     def __repr__(self):
         return f"Expression of {self.facts.size} knots"
     def __eq__(self, other):
@@ -77,7 +77,7 @@ class Sign(Expression):
         return self.facts.size
 
     def __str__(self):
-        return self.facts.text
+        return str(self.facts.text)
     def __repr__(self):
         return f"Expression of {self.facts.size} knots"
     def __eq__(self, other):
@@ -119,7 +119,7 @@ class Name(Expression):
         return self.facts.size
 
     def __str__(self):
-        return self.facts.text
+        return str(self.facts.text)
     def __repr__(self):
         return f"Expression of {self.facts.size} knots"
     def __eq__(self, other):
@@ -162,7 +162,7 @@ class Weave(Expression):
         return self.facts.size
 
     def __str__(self):
-        return self.facts.text
+        return str(self.facts.text)
     def __repr__(self):
         return f"Expression of {self.facts.size} knots"
     def __eq__(self, other):
@@ -206,7 +206,7 @@ class Part(Expression):
         return self.facts.size
 
     def __str__(self):
-        return self.facts.text
+        return str(self.facts.text)
     def __repr__(self):
         return f"Expression of {self.facts.size} knots"
     def __eq__(self, other):
@@ -249,7 +249,7 @@ class Drop(Expression):
         return self.facts.size
 
     def __str__(self):
-        return self.facts.text
+        return str(self.facts.text)
     def __repr__(self):
         return f"Expression of {self.facts.size} knots"
     def __eq__(self, other):
@@ -291,7 +291,7 @@ class Lead(Expression):
         return self.facts.size
 
     def __str__(self):
-        return self.facts.text
+        return str(self.facts.text)
     def __repr__(self):
         return f"Expression of {self.facts.size} knots"
     def __eq__(self, other):
@@ -334,7 +334,7 @@ class Turn(Expression):
         return self.facts.size
 
     def __str__(self):
-        return self.facts.text
+        return str(self.facts.text)
     def __repr__(self):
         return f"Expression of {self.facts.size} knots"
     def __eq__(self, other):
