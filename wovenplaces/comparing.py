@@ -18,7 +18,7 @@ def least_parting(strands, one, other):
     while pairs:
         kept = []
         for left, right, place in pairs:
-            if classes.join(left, right):
+            if classes.unite(left, right):
                 if strands.nought(left) != strands.nought(right):
                     return place
                 kept.append((left, right, place))

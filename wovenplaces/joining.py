@@ -18,7 +18,7 @@ class Classes:
             self.leaders[passed] = thing
         return thing
 
-    def join(self, one, other):
+    def unite(self, one, other):
         """Makes one class of two; whether they were two."""
         first = self.leader(one)
         second = self.leader(other)

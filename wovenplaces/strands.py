@@ -11,7 +11,10 @@ from wovenplaces.words import composed, exchanged_answer, said_of
 
 
 def led_form(knot, step, place, base):
-    """Where all the places step * m + place of a knot lead on, None if they do not lead to the same expression."""
+    """Where the places step * m + place of a knot that is no name lead on, None if they do not lead on as one.
+
+    A lead at its own place 0 leads on with the places behind it.
+    """
     if knot.kind == "weave" and step > 1:
         return knot.inner[place % base], step // base, place // base
     if knot.kind == "part":
@@ -20,8 +23,8 @@ def led_form(knot, step, place, base):
         return knot.inner[0], step, place + knot.told[0]
     if knot.kind == "turn":
         return knot.inner[0], step, place
-    if knot.kind == "lead" and place > 0:
-        return knot.inner[1], step, place - 1
+    if knot.kind == "lead":
+        return knot.inner[1], step, (step if place == 0 else place) - 1
     return None
 
 
@@ -82,24 +85,20 @@ class Strands:
         """The strand of the places step * m + place of an expression."""
         word = self.letters
         ahead = []
-        while True:
-            follower = self.looking.program(knot)
+        form = (knot, step, place)
+        while form is not None:
+            knot, step, place = form
+            if knot.kind == "turn":
+                word = composed(word, knot.told[0], self.letters)
             if knot.kind == "lead" and place == 0:
                 answer = self.looking.answer(knot.inner[0], 0)
                 ahead.append(exchanged_answer(answer, word, self.letters))
-                knot, place = knot.inner[1], step - 1
-            elif follower is not None:
-                knot = follower
-            else:
-                follower = led_form(knot, step, place, self.radix)
-                if follower is None:
-                    return closed(tuple(ahead), self.tail(knot, step, place, word))
-                if knot.kind == "turn":
-                    word = composed(word, knot.told[0], self.letters)
-                knot, step, place = follower
+            program = self.looking.program(knot)
+            form = led_form(knot, step, place, self.radix) if program is None else (program, step, place)
+        return closed(tuple(ahead), self.tail(knot, step, place, word))
 
     def tail(self, knot, step, place, word):
-        """The tail of a form that is at its rest and no lead."""
+        """The tail of an expression whose places do not lead on as one."""
         if knot.kind == "sign":
             return sign_tail(word[self.letters.index(knot.told[0])])
         if knot.kind == "name":
