@@ -22,7 +22,8 @@ class Drawn:
         return Book(self.base, self.signs, self.handed, self.pairs())
 
     def text(self):
-        lines = ["base " + str(self.base), "signs " + self.signs, "handed" + "".join(" " + name for name in self.handed)]
+        lines = ["base " + str(self.base), "signs " + self.signs,
+                 "handed" + "".join(" " + name for name in self.handed)]
         return "\n".join(lines + ["row " + name + " = " + text_of(plan) for name, plan in self.rows])
 
 

@@ -27,12 +27,14 @@ CALLS = {
     agree: ("book", "one", "other", "place"),
     Told: ("book", "row", "given"),
 }
-RIGHT = {"book": BOOK, "row": "weave(s, x)", "one": "s", "other": "t", "place": 3, "first": 2, "many": 5, "given": ROUNDS}
-NO_BOOKS = [None, True, False, 0, 2, "", str(BOOK), b"", (), BOOK.rows, [BOOK], (BOOK,), {"book": BOOK}, Book, X, object(),
-            Touchy(), Round("", "a")]
-NO_TEXTS = ["", " ", "x ", " x", "x\n", "weave(x)", "weave(x,x)", "weave(s, x", "drop(0, x)", "drop(01, x)", "drop(10, x)",
-            "part(2, 2, x)", "part(0, 5, x)", "turn(, x)", "turn(abcde, x)", "abcdefghi", "X", "'A'", "'ab'", "weave", "row s",
-            "s = x", "'a", "lead(x, x, x)", "weave(x, x, x, x, x)", str(BOOK), "drop(1, " * 1999 + "x"]
+RIGHT = {"book": BOOK, "row": "weave(s, x)", "one": "s", "other": "t", "place": 3, "first": 2, "many": 5,
+         "given": ROUNDS}
+NO_BOOKS = [None, True, False, 0, 2, "", str(BOOK), b"", (), BOOK.rows, [BOOK], (BOOK,), {"book": BOOK}, Book, X,
+            object(), Touchy(), Round("", "a")]
+NO_TEXTS = ["", " ", "x ", " x", "x\n", "weave(x)", "weave(x,x)", "weave(s, x", "drop(0, x)", "drop(01, x)",
+            "drop(10, x)",
+            "part(2, 2, x)", "part(0, 5, x)", "turn(, x)", "turn(abcde, x)", "abcdefghi", "X", "'A'", "'ab'", "weave",
+            "row s", "s = x", "'a", "lead(x, x, x)", "weave(x, x, x, x, x)", str(BOOK), "drop(1, " * 1999 + "x"]
 UNKNOWN = {"v": "v", "weave(x, v)": "v", "weave(zz, aa)": "zz", "lead(x, weave(r, q))": "r", "a": "a",
            "weave(v, 'c')": "v", "part(0, 3, u)": "u", "turn(abc, lead(k, j))": "k", "weave(x, s, w)": "w", "xx": "xx"}
 UNFIT = ["'c'", "weave(x, x, x)", "weave(x, x, x, s)", "part(0, 3, x)", "part(3, 4, s)", "turn(a, x)", "turn(aba, x)",
@@ -48,7 +50,8 @@ def wrong_values(parameter):
         no_expressions = [value for value in NO_EXPRESSIONS if not isinstance(value, str)]
         return [(InvalidExpression, value) for value in [*no_expressions, BOOK, *NO_TEXTS, *UNFIT, *UNFIT_EXPRESSIONS]]
     if parameter == "given":
-        return [(InvalidRounds, value) for value in (None, ROUNDS["x"], {"x": ROUNDS["x"]}, {**ROUNDS, "z": ROUNDS["x"]})]
+        return [(InvalidRounds, value) for value in (None, ROUNDS["x"], {"x": ROUNDS["x"]},
+                                                     {**ROUNDS, "z": ROUNDS["x"]})]
     return [(InvalidNumber, value) for value in [*NO_NUMBERS, -1, -2, -10 ** 39]]
 
 
@@ -124,8 +127,8 @@ class Order(Expecting):
 
 class Later(Expecting):
     def test_answers_asks_for_nothing_before_the_first(self):
-        for values in [(None, "s", 0, 1), (BOOK, "v", 0, 1), (BOOK, "'c'", 0, 1), (BOOK, "s", -1, 1), (BOOK, "s", 0, -1),
-                       (BOOK, "s", True, None), (BOOK, "s", 0, None)]:
+        for values in [(None, "s", 0, 1), (BOOK, "v", 0, 1), (BOOK, "'c'", 0, 1), (BOOK, "s", -1, 1),
+                       (BOOK, "s", 0, -1), (BOOK, "s", True, None), (BOOK, "s", 0, None)]:
             answers(*values)
         self.given(InvalidNumber, -1, next, answers(BOOK, "s", -1, -2))
         self.given(InvalidNumber, -2, next, answers(BOOK, "s", 1, -2))

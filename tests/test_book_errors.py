@@ -12,8 +12,8 @@ from wovenplaces.expressions import Name, read_expression
 
 ROWS = (("s", read_expression("weave(s, x)")),)
 WORDS = ("weave", "part", "drop", "lead", "turn")
-NO_NAMES = [None, True, False, 0, 1, "", "A", "aB", "x ", " x", "x y", "x\n", "abcdefghi", "a1", "'a'", b"x", ("x",), ["x"],
-            {"x"}, Name("x"), Touchy(), *WORDS]
+NO_NAMES = [None, True, False, 0, 1, "", "A", "aB", "x ", " x", "x y", "x\n", "abcdefghi", "a1", "'a'", b"x", ("x",),
+            ["x"], {"x"}, Name("x"), Touchy(), *WORDS]
 NO_TUPLES = [None, True, False, 0, 1, "", "x", "xy", b"", [], ["x"], {}, {"x": 1}, set(), {"x"}, frozenset(), range(0),
              Name("x"), object(), Touchy()]
 
@@ -43,8 +43,8 @@ class Arguments(BookErrors):
             self.assertEqual(Book(base, "ab", (), rows_of(r="'a'")).base, base)
 
     def test_signs(self):
-        for wrong in [*NO_STRINGS, "", "abcde", "aa", "aba", "abca", "abcc", "aB", "a b", "a\n", "a1", "ab ", "'a'", " ",
-                      "abcdefgh" * 1000]:
+        for wrong in [*NO_STRINGS, "", "abcde", "aa", "aba", "abca", "abcc", "aB", "a b", "a\n", "a1", "ab ", "'a'",
+                      " ", "abcdefgh" * 1000]:
             self.given(InvalidWord, wrong, Book, 2, wrong, ("x",), ROWS)
             self.given(InvalidWord, wrong, Book, base=2, signs=wrong, handed=("x",), rows=ROWS)
         for signs in ("a", "z", "ba", "xyz", "part", "turn", "drop"):
@@ -77,8 +77,8 @@ class Arguments(BookErrors):
     def test_elements_of_rows(self):
         pair = ("s", Name("x"))
         wrong = [*[(name, Name("x")) for name in NO_NAMES], *[("r", value) for value in NO_EXPRESSIONS],
-                 ["r", Name("x")], ("r",), (), ("r", Name("x"), Name("x")), ("r", "s", Name("x")), "rx", "r", None, True,
-                 0, {"r": Name("x")}, {"r", "x"}, Name("x"), ("x", Name("x")), ("y", Name("x")), (Name("x"), "r"),
+                 ["r", Name("x")], ("r",), (), ("r", Name("x"), Name("x")), ("r", "s", Name("x")), "rx", "r", None,
+                 True, 0, {"r": Name("x")}, {"r", "x"}, Name("x"), ("x", Name("x")), ("y", Name("x")), (Name("x"), "r"),
                  (("r", Name("x")),), Touchy(), (Touchy(), Touchy())]
         for one in wrong:
             self.index(0, InvalidRows, 2, "ab", ("x", "y"), (one,))
@@ -126,7 +126,8 @@ class Fitting(BookErrors):
                  "weave(x, turn(bc, x))", "drop(9, turn(b, 'a'))", "lead('c', x)", "weave(part(1, 3, x), y)"]
         for text in unfit:
             wrong = read_expression(text)
-            for rows in [(("s", wrong),), (("r", Name("x")), ("s", wrong)), (("s", wrong), ("t", read_expression("'d'")))]:
+            for rows in [(("s", wrong),), (("r", Name("x")), ("s", wrong)),
+                         (("s", wrong), ("t", read_expression("'d'")))]:
                 caught = self.raised(InvalidExpression, Book, 2, "ab", ("x", "y"), rows)
                 self.assertIs(caught.given, wrong)
 

@@ -50,7 +50,8 @@ class Members(Expecting):
         pairs = drawn.pairs()
         for value, wanted in ((book.base, drawn.base), (book.signs, drawn.signs), (book.handed, drawn.handed),
                               (book.rows, pairs), (book.names, drawn.names), (len(book), len(pairs)),
-                              (str(book), drawn.text()), (repr(book), f"Book of {len(pairs)} rows"), (bool(book), True)):
+                              (str(book), drawn.text()), (repr(book), f"Book of {len(pairs)} rows"),
+                              (bool(book), True)):
             self.assertIs(type(value), type(wanted))
             self.assertEqual(value, wanted)
         for name, expression in pairs:
@@ -107,8 +108,8 @@ class Members(Expecting):
 
     def test_row_with_any_value(self):
         book = Book.read(TEXT)
-        for wrong in ["x", "y", "", "a", "T", "t ", "row t", "weave", "st", "weave(s, x)", None, True, 0, 1, b"t", ("t",),
-                      ["t"], {"t"}, {"t": 1}, Name("t"), book, object(), Touchy(), 10 ** 39]:
+        for wrong in ["x", "y", "", "a", "T", "t ", "row t", "weave", "st", "weave(s, x)", None, True, 0, 1, b"t",
+                      ("t",), ["t"], {"t"}, {"t": 1}, Name("t"), book, object(), Touchy(), 10 ** 39]:
             self.given(UnknownName, wrong, book.row, wrong)
             self.given(UnknownName, wrong, book.row, name=wrong)
 
@@ -134,7 +135,8 @@ class Equality(Expecting):
         ]
         for other in others:
             self.assertTrue(first != other and other != first and not first == other and not other == first)
-        self.assertNotEqual(Book(2, "ab", ("x",), rows_of(r="drop(1, x)")), Book(3, "ab", ("x",), rows_of(r="drop(1, x)")))
+        self.assertNotEqual(Book(2, "ab", ("x",), rows_of(r="drop(1, x)")),
+                            Book(3, "ab", ("x",), rows_of(r="drop(1, x)")))
 
     def test_values_of_other_classes(self):
         book = Book.read(TEXT)
@@ -160,7 +162,8 @@ class WithRow(Expecting):
             drawn = draw_book(chance)
             book, text = drawn.made(), drawn.text()
             at = chance.randrange(len(drawn.rows))
-            plan = draw_plan(chance, drawn.base, drawn.signs, drawn.handed + drawn.names * 2, chance.choice((3, 8, 8, 9)), 8,
+            plan = draw_plan(chance, drawn.base, drawn.signs, drawn.handed + drawn.names * 2,
+                             chance.choice((3, 8, 8, 9)), 8,
                              chance.choice((0, 1, 3)))
             rows = [(name, plan if at == place else old) for place, (name, old) in enumerate(drawn.rows)]
             changed = Drawn(drawn.base, drawn.signs, drawn.handed, tuple(rows))
@@ -201,7 +204,8 @@ class WithRow(Expecting):
             self.given(InvalidExpression, wrong, book.with_row, "s", wrong)
         self.assertEqual(self.raised(OpenRing, book.with_row, "s", read_expression("drop(1, s)")).name, "s")
         self.assertEqual(self.raised(OpenRing, book.with_row, "w", read_expression("drop(1, t)")).name, "t")
-        self.assertEqual(self.raised(PartRing, book.with_row, "w", read_expression("weave(x, part(1, 2, t))")).name, "t")
+        self.assertEqual(self.raised(PartRing, book.with_row, "w", read_expression("weave(x, part(1, 2, t))")).name,
+                         "t")
         four = read_expression("part(0, 2, part(1, 2, part(1, 2, part(0, 2, s))))")
         self.assertEqual(self.raised(TooManyParts, book.with_row, "w", four).many, 4)
         self.assertEqual(str(book), TEXT)

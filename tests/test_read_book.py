@@ -76,8 +76,8 @@ class ReadBook(Expecting):
 
     def test_characters_that_are_told(self):
         """At these places just these characters make another book."""
-        for at, wanted in [(0, "b"), (4, " "), (5, "2"), (6, "\n"), (7, "s"), (12, " "), (15, "\n"), (22, " "), (24, " "),
-                           (26, "\n"), (27, "r"), (30, " "), (32, " "), (33, "="), (34, " ")]:
+        for at, wanted in [(0, "b"), (4, " "), (5, "2"), (6, "\n"), (7, "s"), (12, " "), (15, "\n"), (22, " "),
+                           (24, " "), (26, "\n"), (27, "r"), (30, " "), (32, " "), (33, "="), (34, " ")]:
             good = [one for one in CHARACTERS if self.read_or_wrong(TEXT[:at] + one + TEXT[at + 1:])]
             self.assertEqual("".join(good), wanted, at)
 
@@ -101,12 +101,15 @@ class ReadBook(Expecting):
 
     def test_rows(self):
         head = "base 2\nsigns ab\nhanded x"
-        for row in ("row r", "row r =", "row r = ", "row r='a'", "row r ='a'", "row r= 'a'", "row  r = 'a'", "row r = 'a' ",
-                    "r = 'a'", "Row r = 'a'", "row x = 'a'", "row weave = 'a'", "row R = 'a'", "row = 'a'", "row  = 'a'",
+        for row in ("row r", "row r =", "row r = ", "row r='a'", "row r ='a'", "row r= 'a'", "row  r = 'a'",
+                    "row r = 'a' ",
+                    "r = 'a'", "Row r = 'a'", "row x = 'a'", "row weave = 'a'", "row R = 'a'", "row = 'a'",
+                    "row  = 'a'",
                     "row r = 'c'", "row r = v", "row r = drop(01, x)", "row r = drop(0, x)", "row r = drop(10, x)",
                     "row r = part(0, 02, x)", "row r = r", "row r = drop(1, r)", "row r = weave(part(0, 2, r), x)",
                     "row r = part(0, 2, part(0, 2, part(0, 2, part(0, 2, x))))", "row r = turn(a, x)", "rowr = x",
-                    "row r = weave(x, x, x)", "row r = part(0, 3, x)", "row r = drop(9, weave(weave(weave(x, x), x), drop(1, x)))",
+                    "row r = weave(x, x, x)", "row r = part(0, 3, x)",
+                    "row r = drop(9, weave(weave(weave(x, x), x), drop(1, x)))",
                     "row r = x = x", "row r = row r = x", "row r s = x", "row r == x", "row abcdefghi = x", "row r : x",
                     "row row r = x", "row r = 'a'\nrow r = 'b'", "row r = x\n", "\nrow r = x", "row r = x\n\nrow s = x",
                     "row r = x\nrow s = r\nrow t = r\nrow u = r\nrow v = r", "row r = weave(x,x)",
@@ -119,7 +122,8 @@ class ReadBook(Expecting):
 
     def test_other_wrong_strings(self):
         for text in ["", "\n", " ", "base 2", "base 2\n", "base 2\nsigns ab", "base 2\nsigns ab\nhanded x",
-                     "base 2\nsigns ab\nhanded x\n", "\n\n\n", "base\nsigns\nhanded\nrow", TEXT + "\n", "\n" + TEXT, TEXT + " ",
+                     "base 2\nsigns ab\nhanded x\n", "\n\n\n", "base\nsigns\nhanded\nrow", TEXT + "\n", "\n" + TEXT,
+                     TEXT + " ",
                      " " + TEXT, TEXT.replace("\n", " "), TEXT.replace("\n", "\n\n"), TEXT.upper(), TEXT * 2,
                      TEXT + "\n" + TEXT, TEXT[::-1], "x", "weave(x, y)", "Book of 3 rows", "a" * 19999, "\n" * 19999,
                      "base 2\nsigns ab\nhanded x\nrow r = " + "drop(1, " * 2000 + "x" + ")" * 2000]:

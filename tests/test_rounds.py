@@ -41,7 +41,8 @@ class Examples(Expecting):
     def test_rounds_of_the_document(self):
         row = Round("abab", "ab")
         self.assertEqual(
-            [row.head, row.loop, row[10 ** 30], row.first(5), str(Round("bb", "aba")), Round("a", "ba") == Round("", "ab"),
+            [row.head, row.loop, row[10 ** 30], row.first(5), str(Round("bb", "aba")),
+             Round("a", "ba") == Round("", "ab"),
              repr(Round("", "bb"))],
             ["", "ab", "a", "ababa", "bb(aba)", True, "Round((b))"])
 
@@ -63,13 +64,16 @@ class Rounds(Expecting):
         for head, loop, wanted in [
                 ("", "a", ("", "a")), ("", "aa", ("", "a")), ("a", "a", ("", "a")), ("aaa", "aa", ("", "a")),
                 ("b", "a", ("b", "a")), ("ba", "a", ("b", "a")), ("", "abab", ("", "ab")), ("a", "ba", ("", "ab")),
-                ("b", "aba", ("b", "aba")), ("ab", "cab", ("", "abc")), ("xab", "cab", ("x", "abc")), ("abc", "bc", ("a", "bc")),
+                ("b", "aba", ("b", "aba")), ("ab", "cab", ("", "abc")), ("xab", "cab", ("x", "abc")),
+                ("abc", "bc", ("a", "bc")),
                 ("", "abaab", ("", "abaab")), ("", "aab", ("", "aab")), ("aab", "aab", ("", "aab")),
                 ("zb", "abab", ("z", "ba")), ("abcabca", "bca", ("", "abc")), ("", "zy" * 500, ("", "zy")),
-                ("zyx" * 300, "zyx" * 20, ("", "zyx")), ("q" + "ab" * 99, "abababab", ("q", "ab")), ("", "aabaab", ("", "aab"))]:
+                ("zyx" * 300, "zyx" * 20, ("", "zyx")), ("q" + "ab" * 99, "abababab", ("q", "ab")),
+                ("", "aabaab", ("", "aab"))]:
             for row in (Round(head, loop), Round(loop=loop, head=head)):
                 self.assertEqual((row.head, row.loop), wanted)
-                self.assertEqual((str(row), repr(row)), (f"{wanted[0]}({wanted[1]})", f"Round({wanted[0]}({wanted[1]}))"))
+                self.assertEqual(str(row), f"{wanted[0]}({wanted[1]})")
+                self.assertEqual(repr(row), f"Round({wanted[0]}({wanted[1]}))")
 
     def test_drawn_rounds(self):
         chance = random.Random(3)
@@ -135,8 +139,8 @@ class Tolds(Expecting):
         for _ in range(250):
             drawn = draw_book(chance)
             plan = draw_fitting(chance, drawn)
-            words = {name: ("".join(chance.choice(drawn.signs) for _ in range(chance.randint(0, 5))),
-                            "".join(chance.choice(drawn.signs) for _ in range(chance.randint(1, 5)))) for name in drawn.handed}
+            words = {name: (self.some_signs(chance, drawn, 0), self.some_signs(chance, drawn,
+                                                                               1)) for name in drawn.handed}
             rounds = {name: Round(*words[name]) for name in reversed(drawn.handed)}
             told = Told(drawn.made(), build(plan), rounds)
             wanted = [self.sign_at(drawn, plan, words, place) for place in range(60)]
@@ -147,6 +151,9 @@ class Tolds(Expecting):
             named = Told(given=rounds, row=text_of(plan), book=drawn.made())
             self.assertEqual([told.sign(far), named.sign(place=far)], [self.sign_at(drawn, plan, words, far)] * 2)
             self.assertEqual(named.first(many=20), told.first(20))
+
+    def some_signs(self, chance, drawn, least):
+        return "".join(chance.choice(drawn.signs) for _ in range(chance.randint(least, 5)))
 
     def sign_at(self, drawn, plan, words, place):
         answer = answer_of(drawn, plan, place)
@@ -179,8 +186,10 @@ class Tolds(Expecting):
                       {"x": a, "y": b, "z": a}, {"x": a, "y": b, "s": a}, {"x": a, "s": b}, {"x": a, None: b},
                       {"x": a, "X": b}, {"x": a, "y ": b}, {0: a, 1: b}, {"x": a, True: b}, {"x": a, ("y",): b},
                       {"x": a, "y": None}, {"x": "a", "y": "b"}, {"x": a, "y": "(b)"}, {"x": a, "y": ("", "b")},
-                      {"x": a, "y": c}, {"x": c, "y": b}, {"x": a, "y": Round("c", "b")}, {"x": Round("a", "bca"), "y": b},
-                      {"x": a, "y": Round("abz", "ab")}, {"x": a, "y": BOOK}, {"x": a, "y": Round}, {"x": a, "y": ["b"]},
+                      {"x": a, "y": c}, {"x": c, "y": b}, {"x": a, "y": Round("c", "b")},
+                      {"x": Round("a", "bca"), "y": b},
+                      {"x": a, "y": Round("abz", "ab")}, {"x": a, "y": BOOK}, {"x": a, "y": Round},
+                      {"x": a, "y": ["b"]},
                       {"x": a, "y": Told(BARE, "t", {})}]:
             self.given(InvalidRounds, wrong, Told, BOOK, "s", wrong)
             self.given(InvalidRounds, wrong, Told, given=wrong, row="s", book=BOOK)

@@ -66,9 +66,11 @@ class Looks(Expecting):
                 # The inner exchange comes first: d to a to d, a to d to b, b to b to a.
                 ("turn(bda, turn(adb, x))", ("x", 5, "dba")), ("turn(adb, turn(bda, x))", ("x", 5, "bad")),
                 ("turn(bda, turn(adb, 'a'))", "b"), ("turn(adb, turn(bda, 'a'))", "a"),
-                ("turn(ddb, x)", ("x", 5, "ddb")), ("turn(ddb, turn(ddd, x))", "d"), ("turn(abb, turn(dda, x))", ("x", 5, "aab")),
+                ("turn(ddb, x)", ("x", 5, "ddb")), ("turn(ddb, turn(ddd, x))", "d"),
+                ("turn(abb, turn(dda, x))", ("x", 5, "aab")),
                 ("turn(dda, turn(add, x))", "d"), ("turn(aaa, x)", "a"), ("turn(bda, turn(aaa, x))", "d"),
-                ("turn(aaa, turn(bda, 'b'))", "a"), ("turn(bda, r)", ("x", 5, "abd")), ("turn(dab, x)", ("x", 5, "dab")),
+                ("turn(aaa, turn(bda, 'b'))", "a"), ("turn(bda, r)", ("x", 5, "abd")),
+                ("turn(dab, x)", ("x", 5, "dab")),
                 ("drop(2, turn(bda, part(1, 2, turn(bda, x))))", ("x", 15, "abd"))]:
             self.same(look(book, text, 5), wanted)
 
@@ -83,7 +85,8 @@ class Looks(Expecting):
         book = Book.read("base 3\nsigns ab\nhanded x\nrow r = weave(s, x, r)\nrow s = lead(t, x)\n"
                          "row t = drop(1, turn(ba, u))\nrow u = lead('a', weave(r, u, x))")
         self.assertEqual(look(book, "r", 0), None)
-        self.assertEqual([look(book, "u", place) for place in range(5)], ["a", None, "a", ("x", 0, "ab"), ("x", 0, "ab")])
+        self.assertEqual([look(book, "u", place) for place in range(5)],
+                         ["a", None, "a", ("x", 0, "ab"), ("x", 0, "ab")])
         for text in ("turn(aa, r)", "turn(bb, drop(1, u))", "weave(r, x, x)", "lead(s, 'b')", "part(0, 3, r)"):
             self.assertIs(look(book, text, 0), None)
 
@@ -93,7 +96,8 @@ class Looks(Expecting):
             book, plan = drawn.made(), draw_fitting(chance, drawn)
             expression = build(plan)
             power = drawn.base ** chance.randint(1, 60)
-            places = [*range(0, 41, chance.randint(1, 4)), power, power - 1, power + 1, chance.randrange(10 ** 39, 10 ** 40),
+            places = [*range(0, 41, chance.randint(1, 4)), power, power - 1, power + 1,
+                      chance.randrange(10 ** 39, 10 ** 40),
                       chance.randrange(10 ** chance.randint(1, 39)), 10 ** 40 - 1]
             for place in places:
                 wanted = answer_of(drawn, plan, place)
@@ -133,7 +137,8 @@ class Walks(Expecting):
         book = Book.read(HEAD + "row s = weave(s, x)")
         self.assertEqual(walked(book, "weave(s, x)", 0), (("weave(s, x)", 0), ("s", 0), ("weave(s, x)", 0)))
         self.assertEqual(walked(book, Weave(Name("s"), Name("x")), 0), walked(book, "weave(s, x)", 0))
-        self.assertEqual(walked(book, "drop(2, lead(x, x))", 0), (("drop(2, lead(x, x))", 0), ("lead(x, x)", 2), ("x", 1)))
+        self.assertEqual(walked(book, "drop(2, lead(x, x))", 0),
+                         (("drop(2, lead(x, x))", 0), ("lead(x, x)", 2), ("x", 1)))
         self.assertEqual(walked(book, "weave(weave(s, x), x)", 0),
                          (("weave(weave(s, x), x)", 0), ("weave(s, x)", 0), ("s", 0), ("weave(s, x)", 0)))
 
@@ -152,8 +157,8 @@ class Walks(Expecting):
     def test_long_walks(self):
         rows = []
         for name, after in zip("rstu", "stur"):
-            drops = "drop(1, turn(ba, drop(1, turn(ba, drop(1, "
-            rows.append(f"row {name} = {drops}{after})))))" if name != "u" else "row u = turn(ba, weave(r, lead(x, r)))")
+            rows.append(f"row {name} = drop(1, turn(ba, drop(1, turn(ba, drop(1, {after})))))")
+        rows[-1] = "row u = turn(ba, weave(r, lead(x, r)))"
         book = Book.read(HEAD + "\n".join(rows))
         drawn = drawn_of(book)
         for place in (0, 5, 10 ** 6, 10 ** 39 + 7, 10 ** 40 - 1):
@@ -196,7 +201,8 @@ class Equal(Expecting):
             drawn = draw_book(chance)
             book, other, plan = drawn.made(), drawn.made(), draw_fitting(chance, drawn)
             expression, place = build(plan), chance.randrange(10 ** chance.choice((1, 2, 30)))
-            told = [look(book, expression, place), walked(book, expression, place), list(answers(book, expression, place, 3))]
+            told = [look(book, expression, place), walked(book, expression, place),
+                    list(answers(book, expression, place, 3))]
             again = [look(other, text_of(plan), place), walked(book, expression, place),
                      list(answers(other, expression, place, 3))]
             self.assertEqual(told, again)
