@@ -100,7 +100,8 @@ class SameByDefinition(Comparing):
             at, c, d = chance.randrange(base), chance.randint(1, 9), chance.randint(1, 9)
             both = "".join(exchanged(sign, [v, w], signs) for sign in signs)
             for one, other in [
-                    (e, e), (e, lead(e, drop(1, e))), (e, turn(signs, e)), (drop(1, lead(f, e)), e),
+                    (e, e), (e, lead(e, drop(1, e))), (e, lead(e, lead(drop(1, e), drop(2, e)))), (e, turn(signs, e)),
+                    (drop(1, lead(f, e)), e),
                     (lead(f, e), lead(lead(f, f), e)), (drop(c, drop(d, e)), drop(d, drop(c, e))),
                     (weave(*[part(j, base, e) for j in range(base)]), e), (part(at, base, weave(*some)), some[at]),
                     (turn(v, turn(w, e)), turn(both, e)), (drop(c, part(at, base, e)),
@@ -110,6 +111,16 @@ class SameByDefinition(Comparing):
                     (drop(1, weave(*some)), weave(*some[1:], drop(1, some[0]))),
                     (lead(f, weave(*some)), weave(lead(f, some[-1]), *some[:-1]))]:
                 self.same(drawn, one, other)
+
+    def test_a_handed_name_by_its_own_places(self):
+        book = Book(2, "ab", ("x",), (("r", Name("x")),))
+        for many in range(10):
+            for ahead in (name("x"), part(1, 2, name("x")), turn("ba", name("x"))):
+                other = drop(many, ahead) if many else ahead
+                for at in range(many - 1, -1, -1):
+                    other = lead(drop(at, ahead) if at else ahead, other)
+                self.assertIsNone(self.both(book, ahead, other), text_of(other))
+                self.assertIsNone(self.both(book, weave(other, ahead), weave(ahead, other)), text_of(other))
 
     def times(self, c, base, e):
         """The plan without its first c * base places."""

@@ -23,6 +23,20 @@ WORDS = """
 type typing typing_extensions enum Enum IntEnum StrEnum Flag IntFlag Generic Protocol ABC ABCMeta namedtuple NamedTuple
 TypedDict TYPE_CHECKING abstractmethod
 """.split()
+METHODS = """
+append clear copy count endswith extend find get index insert isalnum isalpha isdigit islower isspace isupper items join
+keys ljust lower lstrip partition pop remove replace reverse rfind rjust rpartition rsplit rstrip setdefault split
+splitlines startswith strip update upper values zfill bit_length title capitalize swapcase casefold center expandtabs
+removeprefix removesuffix rindex isascii isdecimal isnumeric istitle isidentifier isprintable translate sort add discard
+""".split()
+NO_NAMES = """
+register mro elements open input law version_info with_traceback add_note attrgetter breakpoint builtins compile copyright
+credits delattr dir eval exec exit gc getattr globals hasattr help id importlib license locals methodcaller os quit
+setattr super type vars sys hash map filter round format print object complex float bytearray memoryview slice
+""".split()
+ON_THE_SPOT = ("zip", "enumerate", "reversed", "range", "items", "keys", "values")
+TAKES_THEM = ("list", "tuple", "dict", "sorted", "sum", "any", "all", "enumerate", "zip", "min", "max", "join", "len",
+              "reversed")
 NOT_ALLOWED = (ast.Global, ast.AsyncFunctionDef, ast.AsyncFor, ast.AsyncWith, ast.Await, ast.TryStar, ast.Div,
                ast.Import, ast.MatMult)
 TAKES_A_LIST = ("sum", "min", "max", "sorted", "any", "all")
@@ -43,6 +57,10 @@ def defined_in(name):
 
 def is_called(node, *names):
     return isinstance(node, ast.Call) and isinstance(node.func, ast.Name) and node.func.id in names
+
+
+def called_name(node):
+    return node.func.attr if isinstance(node.func, ast.Attribute) else getattr(node.func, "id", None)
 
 
 def is_written(node, kind):
@@ -140,6 +158,7 @@ class Language(unittest.TestCase):
             used = {node.id for node in found(ast.Name, tree) if isinstance(node.ctx, ast.Load)}
             self.assertLessEqual(used - bound - taken, set(BUILTINS), f"L8 {name}")
             self.assertEqual(taken - used, set(), f"{name} imports what it does not use")
+            self.assertEqual(bound & set(NO_NAMES), set(), f"L15, L17 {name}")
             locals_of = bound - defined_in(name)
             self.assertEqual(locals_of & (set(BUILTINS) | taken), set(), f"L8, L15 {name}")
             for one in locals_of | {node.attr for node in found(ast.Attribute, tree)}:
@@ -151,6 +170,42 @@ class Language(unittest.TestCase):
             for node in found(ast.FunctionDef, tree):
                 for returned in found(ast.Return, node) if node.name in forms else []:
                     self.assertTrue(forms[node.name](returned.value), f"L28 {name} {returned.lineno}")
+
+    def test_attributes_and_methods_are_own_ones_or_those_of_the_rules(self):
+        own, assigned = set(), set()
+        for tree in TREES.values():
+            for made in found(ast.ClassDef, tree):
+                own |= {node.name for node in made.body if isinstance(node, ast.FunctionDef)}
+            assigned |= {node.attr for node in found(ast.Attribute, tree) if isinstance(node.ctx, ast.Store)}
+        for name, tree in TREES.items():
+            called = {id(node.func) for node in found(ast.Call, tree)}
+            for node in found(ast.Attribute, tree):
+                allowed = own | set(METHODS) if id(node) in called else own | assigned
+                self.assertIn(node.attr, allowed, f"L18, L25 {name} {node.lineno}")
+
+    def test_what_is_iterated_on_the_spot(self):
+        for name, tree in TREES.items():
+            spots = {id(node.iter) for node in found((ast.For, ast.comprehension), tree)}
+            for node in found(ast.Call, tree):
+                if called_name(node) in TAKES_THEM:
+                    spots |= {id(one) for one in node.args}
+            spots |= {id(one) for node in found(ast.Compare, tree) for one in node.comparators}
+            for node in found(ast.Call, tree):
+                if called_name(node) in ON_THE_SPOT:
+                    self.assertIn(id(node), spots, f"L23 {name} {node.lineno}")
+
+    def test_generators_have_names_of_their_own(self):
+        named = [node for tree in TREES.values() for node in found(ast.FunctionDef, tree)]
+        for node in named:
+            if found((ast.Yield, ast.YieldFrom), node):
+                self.assertEqual([other.name for other in named].count(node.name), 1, f"L23 {node.name}")
+
+    def test_classes_with_an_index_say_that_they_are_not_iterated_over(self):
+        for name, tree in TREES.items():
+            for made in found(ast.ClassDef, tree):
+                methods = {node.name for node in made.body if isinstance(node, ast.FunctionDef)}
+                self.assertTrue("__getitem__" not in methods or "__iter__" in methods, f"L5 {name} {made.name}")
+                self.assertNotIn("__hash__", methods, "L5")
 
     def test_no_name_is_a_method_and_an_attribute(self):
         methods, attributes = set(), set()

@@ -28,7 +28,7 @@ def expression_of(given):
         raise InvalidExpression(given) from None
 
 
-def fitting(book, given):
+def expression_in(book, given):
     """The expression that is passed or meant, if it fits the book and has no other names than the book."""
     expression = expression_of(given)
     unknown = first_unknown(expression, book.handed + book.names)

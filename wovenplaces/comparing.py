@@ -1,6 +1,6 @@
 """Whether two programs make the same row, whatever the handed rows are."""
 
-from wovenplaces.asking import check_book, check_count, fitting
+from wovenplaces.asking import check_book, check_count, expression_in
 from wovenplaces.joining import Classes
 from wovenplaces.looks import Looking
 from wovenplaces.strands import Strands
@@ -32,8 +32,8 @@ def least_parting(strands, one, other):
 def alike(book, one, other):
     """None if the two are alike, otherwise the least place at which their answers are not the same."""
     check_book(book)
-    left = fitting(book, one)
-    right = fitting(book, other)
+    left = expression_in(book, one)
+    right = expression_in(book, other)
     strands = Strands(book)
     return least_parting(strands, strands.strand(left, 1, 0), strands.strand(right, 1, 0))
 
@@ -41,8 +41,8 @@ def alike(book, one, other):
 def agree(book, one, other, place):
     """Whether the answers of the two at this place are the same."""
     check_book(book)
-    left = fitting(book, one)
-    right = fitting(book, other)
+    left = expression_in(book, one)
+    right = expression_in(book, other)
     check_count(place)
     looking = Looking(book)
     return looking.answer(left, place) == looking.answer(right, place)

@@ -71,7 +71,7 @@ def is_in_part_ring(name, uses, reached):
     """
     for owner in [name, *reached[name]]:
         for use in uses[owner]:
-            if use.parts > 0 and (use.name == name or name in reached[use.name]):
+            if use.parts > 0 and name in reached[use.name]:
                 return True
     return False
 
@@ -94,7 +94,7 @@ def parts_inside(expression):
 def most_parts(rows, uses):
     """The greatest number of parts on a way, if no row comes back to itself under a part."""
     most = {name: parts_inside(expression) for name, expression in rows}
-    # A round adds no part, so each row is met at most once on some way with the most parts.
-    for row in rows:
+    # A round adds no part, so no way has more of them than one that meets each row at most once.
+    for times in range(len(rows)):
         most = {name: max([most[name], *[use.parts + most[use.name] for use in uses[name]]]) for name in most}
     return max(list(most.values()))

@@ -1,6 +1,6 @@
 """Endless rows that are known, and rows of a book in which they stand for the handed names."""
 
-from wovenplaces.asking import check_book, check_count, fitting
+from wovenplaces.asking import check_book, check_count, expression_in
 from wovenplaces.checks import LETTERS
 from wovenplaces.errors import InvalidRounds, InvalidText
 from wovenplaces.looks import Looking
@@ -56,7 +56,7 @@ class Told:
 
     def __init__(self, book, row, given):
         check_book(book)
-        expression = fitting(book, row)
+        expression = expression_in(book, row)
         check_rounds(book, given)
         self.looking = Looking(book)
         self.expression = expression
