@@ -21,6 +21,22 @@ def inner_look(knot, place, base):
     return knot.inner[1], place - 1
 
 
+def inner_form(knot, step, place, base):
+    """Where the places step * m + place lead on from a knot that is neither a sign nor a name.
+
+    An inner expression with another step and place, None if this is not the same for all m.
+    """
+    if knot.kind == "weave":
+        return (knot.inner[place % base], step // base, place // base) if step > 1 else None
+    if knot.kind == "part":
+        return knot.inner[0], base * step, base * place + knot.told[0]
+    if knot.kind == "drop":
+        return knot.inner[0], step, place + knot.told[0]
+    if knot.kind == "turn":
+        return knot.inner[0], step, place
+    return (knot.inner[1], step, place - 1) if place > 0 else None
+
+
 class Looking:
     """What looks into a book need to know of it."""
 
@@ -43,6 +59,15 @@ class Looking:
             program = self.program(knot)
             return None if program is None else (program, place)
         return inner_look(knot, place, self.radix)
+
+    def form_led_on(self, knot, step, place):
+        """Where the places step * m + place lead on, None if this is not the same for all m, or if they end."""
+        if knot.kind == "sign":
+            return None
+        if knot.kind == "name":
+            program = self.program(knot)
+            return None if program is None else (program, step, place)
+        return inner_form(knot, step, place, self.radix)
 
     def answer(self, knot, place):
         """The answer of a look."""

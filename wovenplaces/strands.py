@@ -10,24 +10,6 @@ from wovenplaces.looks import Looking
 from wovenplaces.words import composed, exchanged_answer, said_of
 
 
-def led_form(knot, step, place, base):
-    """Where the places step * m + place of a knot that is no name lead on, None if they do not lead on as one.
-
-    A lead at its own place 0 leads on with the places behind it.
-    """
-    if knot.kind == "weave" and step > 1:
-        return knot.inner[place % base], step // base, place // base
-    if knot.kind == "part":
-        return knot.inner[0], base * step, base * place + knot.told[0]
-    if knot.kind == "drop":
-        return knot.inner[0], step, place + knot.told[0]
-    if knot.kind == "turn":
-        return knot.inner[0], step, place
-    if knot.kind == "lead":
-        return knot.inner[1], step, (step if place == 0 else place) - 1
-    return None
-
-
 def sign_tail(sign):
     return "sign", sign, 0, 0, ""
 
@@ -90,11 +72,11 @@ class Strands:
             knot, step, place = form
             if knot.kind == "turn":
                 word = composed(word, knot.told[0], self.letters)
-            if knot.kind == "lead" and place == 0:
+            form = self.looking.form_led_on(knot, step, place)
+            if form is None and knot.kind == "lead":
                 answer = self.looking.answer(knot.inner[0], 0)
                 ahead.append(exchanged_answer(answer, word, self.letters))
-            program = self.looking.program(knot)
-            form = led_form(knot, step, place, self.radix) if program is None else (program, step, place)
+                form = (knot.inner[1], step, step - 1)
         return closed(tuple(ahead), self.tail(knot, step, place, word))
 
     def tail(self, knot, step, place, word):
