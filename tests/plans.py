@@ -18,6 +18,34 @@ PARAMETERS = {
 }
 
 
+def sign(letter):
+    return "sign", (letter,), ()
+
+
+def name(word):
+    return "name", (word,), ()
+
+
+def weave(*inner):
+    return "weave", (), inner
+
+
+def part(at, base, inner):
+    return "part", (at, base), (inner,)
+
+
+def drop(many, inner):
+    return "drop", (many,), (inner,)
+
+
+def lead(first, rest):
+    return "lead", (), (first, rest)
+
+
+def turn(word, inner):
+    return "turn", (word,), (inner,)
+
+
 def build(plan):
     kind, told, inner = plan
     return CLASSES[kind](*told, *[build(one) for one in inner])

@@ -4,35 +4,11 @@ import unittest
 from tests.drawn import answer_of, draw_book, draw_fitting, draw_plan, draw_word, exchanged, some_books
 from tests.expecting import Expecting
 from tests.pairing import are_alike
-from tests.plans import build, knots_in, put, text_of
+from tests.plans import build, drop, knots_in, lead, name, part, put, text_of, turn, weave
 from wovenplaces.books import Book
 from wovenplaces.comparing import agree, alike
 from wovenplaces.expressions import Name, Sign, read_expression
 from wovenplaces.walks import look
-
-
-def name(word):
-    return "name", (word,), ()
-
-
-def weave(*inner):
-    return "weave", (), inner
-
-
-def part(at, base, inner):
-    return "part", (at, base), (inner,)
-
-
-def drop(many, inner):
-    return "drop", (many,), (inner,)
-
-
-def lead(first, rest):
-    return "lead", (), (first, rest)
-
-
-def turn(word, inner):
-    return "turn", (word,), (inner,)
 
 
 class Examples(Expecting):
