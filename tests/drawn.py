@@ -5,7 +5,7 @@ Nothing here uses what it is compared with, except `Drawn.made`, which makes the
 
 import random
 
-from tests.plans import build, knots_in, names_in, text_of
+from tests.plans import build, knots_in, names_in, plan_of, text_of
 from wovenplaces.books import Book
 
 
@@ -25,6 +25,10 @@ class Drawn:
         lines = ["base " + str(self.base), "signs " + self.signs,
                  "handed" + "".join(" " + name for name in self.handed)]
         return "\n".join(lines + ["row " + name + " = " + text_of(plan) for name, plan in self.rows])
+
+
+def drawn_of(book):
+    return Drawn(book.base, book.signs, book.handed, tuple((name, plan_of(one)) for name, one in book.rows))
 
 
 # Looks

@@ -51,6 +51,10 @@ def build(plan):
     return CLASSES[kind](*told, *[build(one) for one in inner])
 
 
+def plan_of(expression):
+    return expression.kind, expression.told, tuple(plan_of(inner) for inner in expression.inner)
+
+
 def build_by_name(plan):
     kind, told, inner = plan
     values = [*told, *[build_by_name(one) for one in inner]]

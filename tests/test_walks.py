@@ -1,22 +1,14 @@
 import random
 import unittest
 
-from tests.drawn import Drawn, answer_of, draw_book, draw_fitting, some_books, walk_of
+from tests.drawn import answer_of, draw_book, draw_fitting, drawn_of, some_books, walk_of
 from tests.expecting import Expecting
-from tests.plans import build, text_of
+from tests.plans import build, plan_of, text_of
 from wovenplaces.books import Book
 from wovenplaces.expressions import Name, Weave, read_expression
 from wovenplaces.walks import answers, look, walked
 
 HEAD = "base 2\nsigns ab\nhanded x\n"
-
-
-def plan_of(expression):
-    return expression.kind, expression.told, tuple(plan_of(inner) for inner in expression.inner)
-
-
-def drawn_of(book):
-    return Drawn(book.base, book.signs, book.handed, tuple((name, plan_of(one)) for name, one in book.rows))
 
 
 class Examples(Expecting):
