@@ -1,13 +1,18 @@
-"""The errors of the parameters book, row, one, other, place, first, many and given, wherever they occur."""
+"""The errors of the parameters book, row, one, other, handed, place and the like, wherever they occur."""
 
 import unittest
 
-from tests.expecting import NO_EXPRESSIONS, NO_NUMBERS, Expecting, Touchy
+from tests.expecting import NO_EXPRESSIONS, NO_NUMBERS, NO_STRINGS, Expecting, Touchy
+from tests.wishing import NO_WISHES
 from wovenplaces.books import Book
 from wovenplaces.comparing import agree, alike
-from wovenplaces.errors import InvalidExpression, InvalidNumber, InvalidRounds, NotABook, UnknownName
+from wovenplaces.errors import (
+    InvalidExpression, InvalidNumber, InvalidRounds, InvalidWish, NotABook, NotKept, UnknownName)
 from wovenplaces.expressions import Drop, Lead, Name, Part, Sign, Turn, Weave, read_expression
+from wovenplaces.keeping import ahead, classes, keeps, undone
+from wovenplaces.mends import shown_against
 from wovenplaces.rounds import Round, Told
+from wovenplaces.shares import doubled, first_shown, lost, shown, silent, times
 from wovenplaces.walks import answers, look, walked
 
 BOOK = Book.read("base 2\nsigns ab\nhanded x y\nrow s = weave(s, x)\nrow t = lead('a', drop(1, s))")
@@ -26,11 +31,25 @@ CALLS = {
     alike: ("book", "one", "other"),
     agree: ("book", "one", "other", "place"),
     Told: ("book", "row", "given"),
+    silent: ("book", "row"),
+    shown: ("book", "row", "handed"),
+    lost: ("book", "row", "handed"),
+    doubled: ("book", "row", "handed"),
+    times: ("book", "row", "handed", "place"),
+    first_shown: ("book", "row", "handed", "place"),
+    keeps: ("book", "row", "handed"),
+    undone: ("book", "row", "handed"),
+    classes: ("book", "row"),
+    ahead: ("book", "row", "handed"),
+    shown_against: ("book", "wish"),
 }
-RIGHT = {"book": BOOK, "row": "weave(s, x)", "one": "s", "other": "t", "place": 3, "first": 2, "many": 5,
+# The row keeps the handed name, so that it can be undone.
+RIGHT = {"book": BOOK, "row": "weave(part(1, 2, x), part(0, 2, x))", "handed": "x", "wish": ("full", "s"), "one": "s", "other": "t", "place": 3, "first": 2, "many": 5,
          "given": ROUNDS}
+NOT_FOR_ALL_ROWS = (undone,)
 NO_BOOKS = [None, True, False, 0, 2, "", str(BOOK), b"", (), BOOK.rows, [BOOK], (BOOK,), {"book": BOOK}, Book, X,
             object(), Touchy(), Round("", "a")]
+NO_HANDED = [*NO_STRINGS, "", "s", "t", "z", "xx", "x ", " x", "X", "xy", "x y", "'x'", "x\n", "drop(1, x)", Name("x"), BOOK]
 NO_TEXTS = ["", " ", "x ", " x", "x\n", "weave(x)", "weave(x,x)", "weave(s, x", "drop(0, x)", "drop(01, x)",
             "drop(10, x)",
             "part(2, 2, x)", "part(0, 5, x)", "turn(, x)", "turn(abcde, x)", "abcdefghi", "X", "'A'", "'ab'", "weave",
@@ -49,6 +68,10 @@ def wrong_values(parameter):
     if parameter in ("row", "one", "other"):
         no_expressions = [value for value in NO_EXPRESSIONS if not isinstance(value, str)]
         return [(InvalidExpression, value) for value in [*no_expressions, BOOK, *NO_TEXTS, *UNFIT, *UNFIT_EXPRESSIONS]]
+    if parameter == "handed":
+        return [(UnknownName, value) for value in NO_HANDED]
+    if parameter == "wish":
+        return [(InvalidWish, value) for value in NO_WISHES]
     if parameter == "given":
         return [(InvalidRounds, value) for value in (None, ROUNDS["x"], {"x": ROUNDS["x"]},
                                                      {**ROUNDS, "z": ROUNDS["x"]})]
@@ -91,7 +114,11 @@ class Single(Expecting):
         deep = "drop(9, " * 11 + "x" + ")" * 11
         for call, parameters in CALLS.items():
             for text in (wide, deep):
-                call(*[text if one in ("row", "one", "other") else RIGHT[one] for one in parameters])
+                values = [text if one in ("row", "one", "other") else RIGHT[one] for one in parameters]
+                if call in NOT_FOR_ALL_ROWS:
+                    self.given(NotKept, text, call, *values)
+                else:
+                    call(*values)
 
 
 class Order(Expecting):
@@ -107,7 +134,7 @@ class Order(Expecting):
 
     def test_unknown_names_and_other_wrong_values(self):
         for call, parameters in CALLS.items():
-            for at, parameter in enumerate(parameters[1:], 1):
+            for at, parameter in enumerate(parameters[1:] if parameters[1] in ("row", "one") else (), 1):
                 values = [RIGHT[one] for one in parameters]
                 values[1] = "weave(v, 'c')"
                 if at > 1:
@@ -123,6 +150,17 @@ class Order(Expecting):
             self.given(InvalidExpression, "'c'", call, BOOK, "'c'", "w", *rest)
             self.assertEqual(self.raised(UnknownName, call, BOOK, "s", "w", *rest).given, "w")
             self.given(InvalidExpression, "", call, BOOK, "", "'c'", *rest)
+
+
+class NotKeptLast(Expecting):
+    def test_wrong_values_are_found_first(self):
+        for call in NOT_FOR_ALL_ROWS:
+            for row in ("s", "drop(1, x)", read_expression("lead(x, x)")):
+                self.given(NotKept, row, call, BOOK, row, "x")
+                self.given(NotKept, row, call, handed="y", row=row, book=BOOK)
+                for _, wrong in wrong_values("handed"):
+                    self.given(UnknownName, wrong, call, BOOK, row, wrong)
+                self.given(NotABook, None, call, None, row, "x")
 
 
 class Later(Expecting):
