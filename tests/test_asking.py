@@ -5,7 +5,10 @@ import unittest
 from tests.expecting import NO_EXPRESSIONS, NO_NUMBERS, NO_STRINGS, Expecting, Touchy
 from tests.wishing import NO_WISHES
 from wovenplaces.books import Book
+from wovenplaces.certificates import certify_alike, certify_full, certify_keeps, certify_place
 from wovenplaces.comparing import agree, alike
+from wovenplaces.console import Console
+from wovenplaces.desks import Desk
 from wovenplaces.errors import (
     InvalidExpression, InvalidNumber, InvalidRounds, InvalidWish, NotABook, NotKept, UnknownName)
 from wovenplaces.expressions import Drop, Lead, Name, Part, Sign, Turn, Weave, read_expression
@@ -42,11 +45,17 @@ CALLS = {
     classes: ("book", "row"),
     ahead: ("book", "row", "handed"),
     shown_against: ("book", "wish"),
+    Desk: ("book",),
+    certify_alike: ("book", "one", "other"),
+    certify_full: ("book", "row"),
+    certify_place: ("book", "row", "handed", "place"),
+    certify_keeps: ("book", "row", "handed"),
+    Console: ("book",),
 }
 # The row keeps the handed name, so that it can be undone.
 RIGHT = {"book": BOOK, "row": "weave(part(1, 2, x), part(0, 2, x))", "handed": "x", "wish": ("full", "s"), "one": "s", "other": "t", "place": 3, "first": 2, "many": 5,
          "given": ROUNDS}
-NOT_FOR_ALL_ROWS = (undone,)
+NOT_FOR_ALL_ROWS = (undone, certify_keeps)
 NO_BOOKS = [None, True, False, 0, 2, "", str(BOOK), b"", (), BOOK.rows, [BOOK], (BOOK,), {"book": BOOK}, Book, X,
             object(), Touchy(), Round("", "a")]
 NO_HANDED = [*NO_STRINGS, "", "s", "t", "z", "xx", "x ", " x", "X", "xy", "x y", "'x'", "x\n", "drop(1, x)", Name("x"), BOOK]
@@ -134,7 +143,7 @@ class Order(Expecting):
 
     def test_unknown_names_and_other_wrong_values(self):
         for call, parameters in CALLS.items():
-            for at, parameter in enumerate(parameters[1:] if parameters[1] in ("row", "one") else (), 1):
+            for at, parameter in enumerate(parameters[1:] if parameters[1:2] in (("row",), ("one",)) else (), 1):
                 values = [RIGHT[one] for one in parameters]
                 values[1] = "weave(v, 'c')"
                 if at > 1:

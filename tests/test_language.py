@@ -34,6 +34,8 @@ register mro elements open input law version_info with_traceback add_note attrge
 credits delattr dir eval exec exit gc getattr globals hasattr help id importlib license locals methodcaller os quit
 setattr super type vars sys hash map filter round format print object complex float bytearray memoryview slice
 """.split()
+KEYWORDS = [("sorted", "key"), ("sorted", "reverse"), ("min", "key"), ("max", "key"), ("min", "default"),
+            ("max", "default"), ("sum", "start"), ("enumerate", "start"), ("zip", "strict")]
 ON_THE_SPOT = ("zip", "enumerate", "reversed", "range", "items", "keys", "values")
 TAKES_THEM = ("list", "tuple", "dict", "sorted", "sum", "any", "all", "enumerate", "zip", "min", "max", "join", "len",
               "reversed")
@@ -193,6 +195,85 @@ class Language(unittest.TestCase):
             for node in found(ast.Call, tree):
                 if called_name(node) in ON_THE_SPOT:
                     self.assertIn(id(node), spots, f"L23 {name} {node.lineno}")
+
+    def test_lists_and_dicts_at_module_level_are_only_read(self):
+        for name, tree in TREES.items():
+            kept = {node.targets[0].id for node in tree.body
+                    if isinstance(node, ast.Assign) and isinstance(node.value, (ast.Dict, ast.List))}
+            parents = {id(inner): node for node in ast.walk(tree) for inner in ast.iter_child_nodes(node)}
+            for node in found(ast.Name, tree):
+                if node.id in kept and isinstance(node.ctx, ast.Load):
+                    parent = parents[id(node)]
+                    self.assertTrue(
+                        isinstance(parent, ast.Subscript) and parent.value is node and isinstance(parent.ctx, ast.Load)
+                        or isinstance(parent, (ast.Compare, ast.For, ast.comprehension)) or is_called(parent, "len", "sorted")
+                        or isinstance(parent, ast.Attribute) and parent.attr in ("get", "items", "keys", "values"),
+                        f"L15 {name} {node.lineno}")
+            for other in TREES:
+                taken = {one.name for node in imports_of(other) if node.module == f"wovenplaces.{name}" for one in node.names}
+                self.assertEqual(taken & kept, set(), f"L15 {other}")
+
+    def test_what_an_exit_of_a_with_statement_does(self):
+        for name, tree in TREES.items():
+            for node in found(ast.FunctionDef, tree):
+                if node.name == "__exit__":
+                    self.assertEqual([one.arg for one in node.args.args], ["self", "kind", "value", "trace"], "L6")
+                    inner = [one for each in node.body for one in ast.walk(each)]
+                    self.assertFalse([one for one in inner if isinstance(one, (ast.Call, ast.BinOp, ast.Subscript, ast.For,
+                                                                              ast.While, ast.Tuple, ast.Raise))], "L6")
+                    for test in [one for one in inner if isinstance(one, ast.If)]:
+                        self.assertEqual(ast.unparse(test.test), "kind is not None", "L6")
+
+    def test_operators_change_nothing(self):
+        """All functions that operators and properties may call add to nothing but numbers that are written."""
+        reached, waiting = set(), [node for tree in TREES.values() for node in found(ast.FunctionDef, tree)
+                                   if node.decorator_list or node.name.startswith("__") and node.name != "__init__"]
+        named = {node.name: node for tree in TREES.values() for node in tree.body if isinstance(node, ast.FunctionDef)}
+        classes = {node.name: node for tree in TREES.values() for node in tree.body if isinstance(node, ast.ClassDef)}
+        while waiting:
+            node = waiting.pop()
+            if node.name in ("__enter__", "__exit__", "read"):
+                continue
+            for one in found(ast.AugAssign, node):
+                self.assertTrue(is_written(one.value, int) and isinstance(one.target, ast.Name), f"L5 {node.name}")
+            for one in found((ast.Global, ast.Nonlocal, ast.Delete), node):
+                self.fail(f"L5 {node.name} {one.lineno}")
+            for call in found(ast.Call, node):
+                follower = named.get(called_name(call))
+                if called_name(call) == "Places":
+                    follower = [one for one in classes["Places"].body if getattr(one, "name", "") == "__init__"][0]
+                if follower is not None and follower.name not in reached:
+                    reached.add(follower.name)
+                    waiting.append(follower)
+        self.assertLessEqual({"bits_below", "tiled", "least_width", "primes_of"}, reached)
+
+    def test_stars_in_calls(self):
+        for name, tree in TREES.items():
+            for node in found(ast.Call, tree):
+                for one in node.args:
+                    if isinstance(one, ast.Starred):
+                        self.assertIsInstance(one.value, (ast.Name, ast.Attribute, ast.List, ast.Tuple),
+                                              f"L7 {name} {node.lineno}")
+                if isinstance(node.func, ast.Name) and node.func.id in BUILTINS:
+                    for one in node.keywords:
+                        self.assertIn((node.func.id, one.arg), KEYWORDS, f"L22 {name} {node.lineno}")
+                if isinstance(node.func, ast.Attribute) and node.func.attr in METHODS:
+                    self.assertEqual(node.keywords, [], f"L22 {name} {node.lineno}")
+
+    def test_powers_and_lambdas(self):
+        for name, tree in TREES.items():
+            for node in found(ast.BinOp, tree):
+                if isinstance(node.op, ast.Pow):
+                    self.assertTrue(is_written(node.right, int), f"L27 {name} {node.lineno}")
+            lines = [node.lineno for node in found(ast.Lambda, tree)]
+            self.assertEqual(len(lines), len(set(lines)), f"L13 {name}")
+
+    def test_names_of_properties(self):
+        made = [node for tree in TREES.values() for node in found(ast.ClassDef, tree)]
+        told = [(node.name, bool(node.decorator_list) and ast.unparse(node.decorator_list[0]) == "property")
+                for one in made for node in one.body if isinstance(node, ast.FunctionDef)]
+        properties, methods = {one for one, is_one in told if is_one}, {one for one, is_one in told if not is_one}
+        self.assertEqual(properties & (methods | set(METHODS)), set(), "L5")
 
     def test_generators_have_names_of_their_own(self):
         named = [node for tree in TREES.values() for node in found(ast.FunctionDef, tree)]

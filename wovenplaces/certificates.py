@@ -2,9 +2,8 @@
 
 from wovenplaces.asking import check_book, check_count, check_handed, expression_in
 from wovenplaces.comparing import alike
-from wovenplaces.errors import NotKept
 from wovenplaces.forms import Forms, is_end
-from wovenplaces.keeping import kept_classes
+from wovenplaces.keeping import kept_row
 from wovenplaces.shares import first_shown, silent
 from wovenplaces.webs import Web
 
@@ -61,10 +60,5 @@ def certify_place(book, row, handed, place):
 
 def certify_keeps(book, row, handed):
     """That the row keeps this handed name."""
-    check_book(book)
-    expression = expression_in(book, row)
-    check_handed(book, handed)
-    found = kept_classes(book, expression, handed)
-    if found is None:
-        raise NotKept(row)
+    expression, found = kept_row(book, row, handed)
     return ("keeps", str(book), str(expression), handed), found

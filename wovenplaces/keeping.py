@@ -4,6 +4,7 @@ from wovenplaces.asking import check_book, check_handed, expression_in
 from wovenplaces.covering import covers_once
 from wovenplaces.errors import NotKept
 from wovenplaces.forms import is_end
+from wovenplaces.shares import web_of
 from wovenplaces.undoing import Undoing
 from wovenplaces.webs import Web
 
@@ -54,14 +55,20 @@ def keeps(book, row, handed):
     return kept_classes(book, expression, handed) is not None
 
 
-def undone(book, row, handed):
-    """An expression of what the row makes that is alike to the handed name."""
+def kept_row(book, row, handed):
+    """The expression of a row that keeps this handed name, and its classes."""
     check_book(book)
     expression = expression_in(book, row)
     check_handed(book, handed)
     found = kept_classes(book, expression, handed)
     if found is None:
         raise NotKept(row)
+    return expression, found
+
+
+def undone(book, row, handed):
+    """An expression of what the row makes that is alike to the handed name."""
+    expression, found = kept_row(book, row, handed)
     return Undoing(book, expression, found).made(1, 0)
 
 
@@ -73,10 +80,7 @@ def classes(book, row):
 
 def ahead(book, row, handed):
     """The least c so that no place of the handed name is shown more than c places ahead of it; None if none is."""
-    check_book(book)
-    expression = expression_in(book, row)
-    check_handed(book, handed)
-    web = Web(book, expression)
+    web = web_of(book, row, handed)
     endings = {at: (step, said) for at, step, said in web.endings()}
     most = 0
     for at, span, place in web.arrivals():

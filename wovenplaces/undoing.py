@@ -38,7 +38,10 @@ def brought_first(expression, place, base):
 
 
 class Undoing:
-    """What is known of a row that keeps a handed name; see classes_of for the classes."""
+    """What makes a handed name of a row that keeps it.
+
+    The handed name is made of singles, places by themselves, and of runs of places, each with its step.
+    """
 
     def __init__(self, book, expression, classes):
         self.radix = book.base
@@ -46,29 +49,29 @@ class Undoing:
         self.expression = expression
         self.singles = {}
         self.runs = {}
-        for step, first, end in classes:
-            name, step_told, told, word = end
+        for row_step, row_first, end in classes:
+            name, step, first, word = end
             if step == 0:
-                self.singles[told] = (first, word)
+                self.singles[first] = (row_first, word)
             else:
-                self.runs[step_told, told % step_told] = (told, step, first, word)
+                self.runs[step, first % step] = (first, row_step, row_first, word)
         self.steps = sorted(set([key[0] for key in self.runs]))
 
-    def turned(self, expression, word):
+    def taken_back(self, expression, word):
         word = opposite_word(word, self.letters)
         return expression if word == self.letters else Turn(word, expression)
 
     def single(self, place):
-        """An expression with this place of the handed name as its first, where it is one by itself."""
-        first, word = self.singles[place]
-        return self.turned(brought_first(self.expression, first, self.radix), word)
+        """An expression with this single as its first place."""
+        row_place, word = self.singles[place]
+        return self.taken_back(brought_first(self.expression, row_place, self.radix), word)
 
-    def run(self, step, place, of):
-        """The places step * m + place of the handed name, where all are of the run with this step."""
-        told, row_step, first, word = self.runs[of, place % of]
-        inner = picked_out(self.expression, row_step * (step // of), first + row_step * ((place - told) // of),
-                           self.radix)
-        return self.turned(inner, word)
+    def within_run(self, step, place, run_step):
+        """The places step * m + place of the handed name, all of which are in the run with this step."""
+        first, row_step, row_first, word = self.runs[run_step, place % run_step]
+        wider = row_step * (step // run_step)
+        row_place = row_first + row_step * ((place - first) // run_step)
+        return self.taken_back(picked_out(self.expression, wider, row_place, self.radix), word)
 
     def made(self, step, place):
         """The places step * m + place of the handed name."""
@@ -76,11 +79,12 @@ class Undoing:
         while place in self.singles:
             ahead.append(self.single(place))
             place += step
-        of = [some for some in self.steps if (some, place % some) in self.runs][0]
-        if step >= of:
-            told = self.run(step, place, of)
+        run_step = [some for some in self.steps if (some, place % some) in self.runs][0]
+        if step >= run_step:
+            told = self.within_run(step, place, run_step)
         else:
-            told = Weave(*[self.made(step * self.radix, place + step * at) for at in range(self.radix)])
+            lanes = [self.made(step * self.radix, place + step * at) for at in range(self.radix)]
+            told = Weave(*lanes)
         for first in ahead[::-1]:
             told = Lead(first, told)
         return told
