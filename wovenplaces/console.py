@@ -42,15 +42,18 @@ def is_field(kind, text):
 
 def fields_of(text, pattern):
     """The fields of a text in this pattern, None if it is not in it."""
+    if len(pattern) == 0:
+        return [] if text == "" else None
     fields = []
-    between = " "
-    for at in range(0, len(pattern), 2):
-        # No field has the string within it that stands behind it.
-        field, between, text = text.partition(pattern[at + 1]) if at + 1 < len(pattern) else (text, " ", "")
-        if between == "" or not is_field(pattern[at], field):
+    for between in pattern[1::2]:
+        # No field has the string within it that stands behind it, so the first one is the right one.
+        field, found, text = text.partition(between)
+        if found == "":
             return None
         fields.append(field)
-    return fields if text == "" else None
+    fields.append(text)
+    right = [is_field(kind, field) for kind, field in zip(pattern[::2], fields)]
+    return fields if all(right) else None
 
 
 def read_line(line):

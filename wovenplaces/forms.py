@@ -33,7 +33,7 @@ class Forms:
         self.noughts = {}
 
     def learn(self, expression):
-        """Its text."""
+        """The text of the expression, which may stand in forms from now on."""
         text = str(expression)
         self.learned[text] = expression
         return text
@@ -80,7 +80,7 @@ class Forms:
         return exchanged_answer(self.noughts[text, place], word, self.letters)
 
     def picked(self, rest, times, more):
-        """The rest of the places of this one from the m `more` on, each of so many; a sign stays as it is."""
+        """The rest of those places of a rest that have the numbers times * m + more; a sign stays as it is."""
         text, step, place, word = rest
         return rest if is_sign(rest) else self.rest((text, step * times, place + step * more, word))
 

@@ -79,7 +79,7 @@ def classes(book, row):
 
 
 def ahead(book, row, handed):
-    """The least c so that no place of the handed name is shown more than c places ahead of it; None if none is."""
+    """The least c so that no place q of the handed name is shown ahead of the place q - c; None if there is none."""
     web = web_of(book, row, handed)
     endings = {at: (step, said) for at, step, said in web.endings()}
     most = 0
